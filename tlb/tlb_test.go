@@ -671,7 +671,8 @@ func TestFlushOfMany(t *testing.T) {
 	}
 }
 
-// P9.3: each pattern of lines of two address spaces and of empty slots.
+// P9.3 and P9.4: each pattern of lines of three address spaces; the slots of
+// the one that is flushed first are empty when the others are flushed.
 func TestFlushOfPatterns(t *testing.T) {
 	for pattern := range 6561 {
 		b, w := tlb.New(), &model{}
